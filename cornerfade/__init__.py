@@ -1,0 +1,1 @@
+"""Cornerfade: maps made simpler at every scale."""
