@@ -98,6 +98,22 @@ class LegalTest(unittest.TestCase):
         self.legal(lines_at([(0, 0), (9, 9)], [(5, 4), (9, 0)]))
         self.legal(lines_at([(0, 0), (9, 9)], [(0, 9), (4, 5)]))
 
+    def test_corners_that_touch_from_each_side(self):
+        """The corner at (0, 0) touches a segment through it; a step back it does not."""
+        for x, y in ((1, 0), (1, 1), (0, 1), (-1, 1), (-1, 0), (-1, -1), (0, -1), (1, -1), (2, 1)):
+            wall = [(-6 * y, 6 * x), (6 * y, -6 * x)]
+            ends = [(9 * x - y, 9 * y + x), (9 * x + y, 9 * y - x)]
+            for back, word in ((0, "meet"), (1, None)):
+                tip = (back * x, back * y)
+                for first in (wall, wall[::-1]):
+                    for second in ([ends[0], tip, ends[1]], [ends[1], tip, ends[0]]):
+                        for paths in ((first, second), (second, first)):
+                            world = lines_at(*paths)
+                            if word:
+                                self.faulty(world, word)
+                            else:
+                                self.legal(world)
+
     def test_segments_on_one_straight_line(self):
         self.faulty(lines_at([(0, 0), (5, 0)], [(3, 0), (9, 0)]))
         self.faulty(lines_at([(0, 0), (9, 0)], [(3, 0), (5, 0)]))
