@@ -119,6 +119,13 @@ def told(region):
     return tuple(sorted([side for outline in region.outlines for side in outline.sides]))
 
 
+def size_of(region):
+    """Twice the size of an area, None for the one without a bound."""
+    if region.rim is None:
+        return None
+    return sum([outline.size for outline in region.outlines])
+
+
 def areas_of(regions):
     """What tells each of the areas, ascending."""
     return tuple(sorted([told(region) for region in regions]))
@@ -178,9 +185,7 @@ def twice(world, area):
     asked = plain(area)
     for region in regions:
         if told(region) == asked:
-            if region.rim is None:
-                return None
-            return sum([outline.size for outline in region.outlines])
+            return size_of(region)
     raise BadValue(1)
 
 

@@ -148,6 +148,23 @@ def corners_of(world):
     ]
 
 
+def points_of(world):
+    """The places of all points of a map."""
+    return [place for _, place in standing_points_of(world) + corners_of(world)]
+
+
+def without_corners(world, gone):
+    """The map without the corners that the pairs (line, number) of a sequence tell."""
+    nodes, lines, marks = world
+    left = [
+        (name, start, end, tuple([
+            corner for number, corner in enumerate(corners) if (name, number) not in gone
+        ]))
+        for name, start, end, corners in lines
+    ]
+    return (nodes, tuple(left), marks)
+
+
 def find_twins(world):
     """Two lines with the same ends, as a fault; None if there are none."""
     lines_between = {}
@@ -230,3 +247,11 @@ def legal_map(value, at):
     if not is_legal(value):
         raise BadValue(at)
     return plain(value)
+
+
+def path_named(world, line):
+    """The places of the points of the line that was passed as argument 1 beside a map."""
+    paths = paths_of(world)
+    if line not in list(paths):
+        raise BadValue(1)
+    return paths[line]

@@ -10,7 +10,10 @@ def cross(base, one, other):
 
 
 def dot(base, one, other):
-    """Above 0 if one and other are seen from base within less than a quarter turn."""
+    """Above 0 if one and other are seen from base within less than a quarter turn.
+
+    For one and the same place it is the square of its distance from base.
+    """
     return (
         (one[0] - base[0]) * (other[0] - base[0])
         + (one[1] - base[1]) * (other[1] - base[1])
@@ -56,6 +59,51 @@ def segments_meet(one, other):
         and reaches_across(one, other)
         and reaches_across(other, one)
     )
+
+
+def chain_below(places):
+    """Of places from left to right those along the lower side of their convex hull."""
+    kept = []
+    for place in places:
+        while len(kept) > 1 and cross(kept[-2], kept[-1], place) <= 0:
+            kept.pop()
+        kept.append(place)
+    return kept
+
+
+def hull_of(places):
+    """The ends of the convex hull of places, counterclockwise; two of them if it is flat."""
+    ordered = sorted(places)
+    return chain_below(ordered)[:-1] + chain_below(ordered[::-1])[:-1]
+
+
+def in_hull(place, hull):
+    """Whether a place lies in a convex hull, its sides included."""
+    if len(hull) == 2:
+        return on_segment(place, hull)
+    for at in range(len(hull)):
+        if cross(hull[at - 1], hull[at], place) < 0:
+            return False
+    return True
+
+
+def first_in_hull(points, places):
+    """The first of the points that lies in the convex hull of places and is none of these."""
+    hull = hull_of(places)
+    for point in points:
+        if in_hull(point, hull) and point not in places:
+            return point
+    return None
+
+
+def is_within(place, segment, square):
+    """Whether the square of the distance of a place from a segment is at most square."""
+    one, other = segment
+    if dot(one, place, other) <= 0:
+        return dot(one, place, place) <= square
+    if dot(other, place, one) <= 0:
+        return dot(other, place, place) <= square
+    return cross(one, other, place) ** 2 <= square * dot(one, other, other)
 
 
 def twice_around(places):

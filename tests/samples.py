@@ -159,3 +159,20 @@ def bad_value(test, at, call, *args):
     test.assertIs(type(caught.exception), BadValue)
     test.assertEqual(caught.exception.at, at)
     test.assertIs(type(caught.exception.at), int)
+
+
+# Values that are no integers, and values that are no names of a line of any map here.
+NO_INTEGERS = (True, False, None, "", "0", "1", [], [0], (1,), ((), ()), "a" * 20000)
+NO_LINES = (None, True, 0, 1, 10 ** 30, "", "hut", "zz", "Rim", "rim ", [], ["rim"], ("rim",), [[]])
+
+
+def with_marks(world, *places):
+    """The map with marks at these places, and no others."""
+    marks = tuple(("m" + chr(97 + k), x, y, 1, 1) for k, (x, y) in enumerate(places))
+    return world[0], world[1], marks
+
+
+def one_line(*places):
+    """A map of one line "l" with points at these places."""
+    (x, y), (u, v) = places[0], places[-1]
+    return (("a", x, y), ("b", u, v)), (("l", "a", "b", tuple(places[1:-1])),), ()

@@ -212,17 +212,17 @@ class RandomMapsTest(unittest.TestCase):
 
     def test_random_maps(self):
         rings = 0
-        for seed in range(220):
+        for seed in range(120):
             width = 5 + seed % 5
             world = oracle.random_legal_map(seed, width, 40 + seed % 50)
             self.assertIs(is_legal(world), True)
             rings += len(areas(world)) > 2
             places = [(x, y) for x in range(-1, width + 1) for y in range(-1, width + 1)]
             self.same_as_oracle(world, places)
-        self.assertGreater(rings, 40)
+        self.assertGreater(rings, 20)
 
     def test_random_maps_between_the_grid(self):
-        for seed in range(40):
+        for seed in range(20):
             world = moved(oracle.random_legal_map(seed, 6, 90), 3, 0, 0)
             places = [(x, y) for x in range(-1, 18) for y in range(-1, 18)]
             self.same_as_oracle(world, places)

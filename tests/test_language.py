@@ -7,7 +7,7 @@ import os
 import unittest
 
 import cornerfade
-from cornerfade import areas, errors, maps
+from cornerfade import areas, drops, errors, fades, maps, thinnings
 
 FOLDER = os.path.dirname(os.path.abspath(cornerfade.__file__))
 INTERFACE = {
@@ -15,6 +15,26 @@ INTERFACE = {
     areas: {
         "areas": ["world"], "area_of": ["world", "place"], "turn": ["world", "name"],
         "alike": ["one", "other"], "twice": ["world", "area"], "pieces": ["world"],
+    },
+    drops: {
+        "triangle": ["world", "line", "number"], "size": ["world", "line", "number"],
+        "can_drop": ["world", "line", "number"], "barred_by": ["world", "line", "number"],
+        "dropped": ["world", "line", "number"],
+        "frame": ["world", "line", "number", "top", "bottom"],
+    },
+    fades: {
+        "fade": ["world"], "stage": ["world", "number"], "stages": ["world"], "scales": ["world"],
+        "at_scale": ["world", "scale"], "moment": ["world", "number", "top", "bottom"],
+        "stays": ["world"], "sizes": ["world"],
+    },
+    thinnings: {
+        "is_clear": ["world", "line", "i", "j"],
+        "is_near": ["world", "line", "i", "j", "nearness"],
+        "shortcuts": ["world", "line", "nearness"],
+        "is_thinning": ["world", "line", "nearness", "value"],
+        "fewest": ["world", "line", "nearness"], "levels": ["world", "line", "nearness"],
+        "levels_hold": ["world", "line", "nearness", "value"], "thinned": ["world", "chosen"],
+        "thinned_all": ["world", "nearness"],
     },
 }
 CLASSES = ("MapError", "BadValue", "BadText", "BadLevels", "CannotDrop", "NoStage", "NotLegal")
