@@ -38,9 +38,9 @@ class Fading:
                 found.append(Bend(line, row[at][0], places))
         return found
 
-    def is_there(self, bar):
+    def is_there(self, point):
         """Whether what was found to bar a corner, a place or None, does so still."""
-        return bar is None or bar in self.points
+        return point is None or point in self.points
 
     def bar(self, bend):
         """The place of a point that bars a corner now, None if there is none.
