@@ -84,6 +84,11 @@ def stage_after(world, gone):
     return without_corners(world, [(bend.line, bend.number) for bend in gone])
 
 
+def maps_while(world, gone):
+    """The maps of all stages, while one corner after the other goes."""
+    return [stage_after(world, gone[:many]) for many in range(len(gone) + 1)]
+
+
 def scales_of(gone):
     """For each drop the greatest size of it and all drops before it."""
     found = []
@@ -156,4 +161,4 @@ def sizes(world):
     """For every stage of the fade its areas, each with twice its size."""
     known = legal_map(world, 0)
     gone, _ = faded(known)
-    return tuple([sizes_of(stage_after(known, gone[:many])) for many in range(len(gone) + 1)])
+    return tuple([sizes_of(shown) for shown in maps_while(known, gone)])

@@ -53,6 +53,11 @@ def is_place(value, farthest):
     return is_row(value, 2) and all([is_between(part, -farthest, farthest) for part in value])
 
 
+def is_label_size(value):
+    """Whether value is the size (wide, high) of a label."""
+    return is_row(value, 2) and all([is_between(part, 0, LARGEST_LABEL) for part in value])
+
+
 def is_node(value):
     """Whether value is a node."""
     return is_row(value, 3) and is_name(value[0]) and is_place(value[1:], FARTHEST)
@@ -62,9 +67,7 @@ def is_mark(value):
     """Whether value is a mark."""
     if not is_row(value, 5) or not is_name(value[0]):
         return False
-    return is_place(value[1:3], FARTHEST) and all(
-        [is_between(part, 0, LARGEST_LABEL) for part in value[3:]]
-    )
+    return is_place(value[1:3], FARTHEST) and is_label_size(value[3:])
 
 
 def is_line(value, node_names):

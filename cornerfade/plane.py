@@ -32,11 +32,16 @@ def on_segment(place, segment):
 
 
 def spans_touch(one, other, axis):
-    """Whether the shadows of two segments on an axis have a number in common."""
+    """Whether the shadows of two pairs of places on an axis have a number in common."""
     return (
         max(one[0][axis], one[1][axis]) >= min(other[0][axis], other[1][axis])
         and max(other[0][axis], other[1][axis]) >= min(one[0][axis], one[1][axis])
     )
+
+
+def boxes_touch(one, other):
+    """Whether two upright boxes, each told by opposite ends, have a place in common."""
+    return spans_touch(one, other, 0) and spans_touch(one, other, 1)
 
 
 def reaches_across(segment, other):
@@ -54,11 +59,20 @@ def segments_meet(one, other):
     """Whether two segments have a place in common, their ends included."""
     # The shadows decide for two segments on one straight line: these always reach across.
     return (
-        spans_touch(one, other, 0)
-        and spans_touch(one, other, 1)
+        boxes_touch(one, other)
         and reaches_across(one, other)
         and reaches_across(other, one)
     )
+
+
+def box_meets(box, segment):
+    """Whether an upright box, told by opposite ends, has a place in common with a segment."""
+    if not boxes_touch(box, segment):
+        return False
+    (left, low), (right, high) = box
+    ends = ((left, low), (left, high), (right, low), (right, high))
+    sides = [cross(segment[0], segment[1], end) for end in ends]
+    return min(sides) <= 0 <= max(sides)
 
 
 def chain_below(places):

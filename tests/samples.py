@@ -176,3 +176,12 @@ def one_line(*places):
     """A map of one line "l" with points at these places."""
     (x, y), (u, v) = places[0], places[-1]
     return (("a", x, y), ("b", u, v)), (("l", "a", "b", tuple(places[1:-1])),), ()
+
+
+# Its drops have the sizes 0, 20, 52 and 11.
+STEPS = one_line((0, 0), (2, 6), (6, 6), (9, 1), (12, 1), (20, 1))
+
+
+def state(zoom):
+    """Everything that a zoom tells."""
+    return zoom.here(), zoom.shown(), zoom.scale(), zoom.whole(), len(zoom)

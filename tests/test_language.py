@@ -7,36 +7,10 @@ import os
 import unittest
 
 import cornerfade
-from cornerfade import areas, drops, errors, fades, maps, thinnings
+from cornerfade import errors, zooms
+from tests.interface import FUNCTIONS, METHODS
 
 FOLDER = os.path.dirname(os.path.abspath(cornerfade.__file__))
-INTERFACE = {
-    maps: {"is_map": ["value"], "is_legal": ["value"], "fault": ["value"]},
-    areas: {
-        "areas": ["world"], "area_of": ["world", "place"], "turn": ["world", "name"],
-        "alike": ["one", "other"], "twice": ["world", "area"], "pieces": ["world"],
-    },
-    drops: {
-        "triangle": ["world", "line", "number"], "size": ["world", "line", "number"],
-        "can_drop": ["world", "line", "number"], "barred_by": ["world", "line", "number"],
-        "dropped": ["world", "line", "number"],
-        "frame": ["world", "line", "number", "top", "bottom"],
-    },
-    fades: {
-        "fade": ["world"], "stage": ["world", "number"], "stages": ["world"], "scales": ["world"],
-        "at_scale": ["world", "scale"], "moment": ["world", "number", "top", "bottom"],
-        "stays": ["world"], "sizes": ["world"],
-    },
-    thinnings: {
-        "is_clear": ["world", "line", "i", "j"],
-        "is_near": ["world", "line", "i", "j", "nearness"],
-        "shortcuts": ["world", "line", "nearness"],
-        "is_thinning": ["world", "line", "nearness", "value"],
-        "fewest": ["world", "line", "nearness"], "levels": ["world", "line", "nearness"],
-        "levels_hold": ["world", "line", "nearness", "value"], "thinned": ["world", "chosen"],
-        "thinned_all": ["world", "nearness"],
-    },
-}
 CLASSES = ("MapError", "BadValue", "BadText", "BadLevels", "CannotDrop", "NoStage", "NotLegal")
 LIBRARY = {
     "heapq": {"heappush", "heappop", "heapify", "heapreplace", "heappushpop"},
@@ -72,7 +46,7 @@ def files():
 
 class InterfaceTest(unittest.TestCase):
     def test_functions(self):
-        for module, functions in INTERFACE.items():
+        for module, functions in FUNCTIONS.items():
             for name, parameters in functions.items():
                 function = getattr(module, name)
                 self.assertTrue(inspect.isfunction(function))
@@ -82,6 +56,14 @@ class InterfaceTest(unittest.TestCase):
     def test_classes(self):
         for name in CLASSES:
             self.assertEqual(getattr(errors, name).__module__, "cornerfade.errors")
+
+    def test_zoom(self):
+        self.assertEqual(zooms.Zoom.__module__, "cornerfade.zooms")
+        self.assertEqual(list(inspect.signature(zooms.Zoom).parameters), ["world"])
+        for name, parameters in METHODS.items():
+            method = vars(zooms.Zoom)[name]
+            self.assertTrue(inspect.isfunction(method))
+            self.assertEqual(list(inspect.signature(method).parameters), ["self"] + parameters)
 
 
 class LanguageTest(unittest.TestCase):

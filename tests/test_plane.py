@@ -3,8 +3,10 @@
 import unittest
 from itertools import product
 
-from cornerfade.plane import on_same_ray, on_segment, segments_meet, surrounds, twice_around
-from tests import oracle
+from cornerfade.plane import (
+    box_meets, boxes_touch, on_same_ray, on_segment, segments_meet, surrounds, twice_around,
+)
+from tests import boxes, oracle
 
 GRID = tuple(product(range(3), range(3)))
 FAR = 1000000000
@@ -21,6 +23,23 @@ class PlaneTest(unittest.TestCase):
         for one, other in product(segments, segments):
             if one[0] != one[1] and other[0] != other[1]:
                 self.assertIs(segments_meet(one, other), bool(oracle.common(one, other)))
+
+    def test_box_meets(self):
+        # Boxes within a grid that is wider than they are, of every size, flat ones, too.
+        wide = tuple(product(range(5), range(5)))
+        segments = [(one, other) for one, other in product(wide, wide) if one != other]
+        for x, y, right, up in product((1, 2), (1, 2), (0, 1, 2), (0, 1)):
+            mark = ("m", x, y, right, up)
+            for one, other in segments:
+                expected = boxes.meets_segment(mark, one, other)
+                self.assertIs(box_meets(((x, y), (x + right, y + up)), (one, other)), expected)
+
+    def test_boxes_touch(self):
+        sizes = tuple(product(GRID, ((0, 0), (0, 1), (1, 0), (1, 1), (2, 1))))
+        for ((x, y), (a, b)), ((u, v), (c, d)) in product(sizes, sizes):
+            expected = boxes.meets_label(("m", x, y, a, b), ("n", u, v, c, d))
+            found = boxes_touch(((x, y), (x + a, y + b)), ((u, v), (u + c, v + d)))
+            self.assertIs(found, expected)
 
     def test_on_same_ray(self):
         for base, one, other in product(GRID, GRID, GRID):

@@ -8,12 +8,9 @@ from cornerfade.fades import at_scale, fade, moment, scales, stage, stages
 from cornerfade.maps import is_legal
 from tests import flows
 from tests.samples import (
-    EMPTY, ILLEGAL, LEGAL, LINE, NESTED, NO_INTEGERS, NO_MAPS, TENT, bad_value, greatest_map,
+    EMPTY, ILLEGAL, LEGAL, LINE, NESTED, NO_INTEGERS, NO_MAPS, STEPS, TENT, bad_value, greatest_map,
     is_plain, listed, moved, one_line, with_marks,
 )
-
-# Its drops have the sizes 0, 20, 52 and 11.
-STEPS = one_line((0, 0), (2, 6), (6, 6), (9, 1), (12, 1), (20, 1))
 
 
 def no_stage(test, passed, call, *args):
