@@ -26,9 +26,10 @@ def node_met(world, box):
 def mark_met(world, mark):
     """The name of the first other mark in the label of a mark, None if there is none."""
     box = box_of(mark)
-    for name, x, y, _, _ in world[2]:
-        if name != mark[0] and boxes_touch(box, ((x, y), (x, y))):
-            return name
+    for other in world[2]:
+        place = other[1:3]
+        if other != mark and boxes_touch(box, (place, place)):
+            return other[0]
     return None
 
 

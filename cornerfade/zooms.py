@@ -3,7 +3,7 @@
 from cornerfade.errors import BadValue, NoStage, NotLegal
 from cornerfade.fades import faded, maps_while, scales_of
 from cornerfade.maps import (
-    FARTHEST, is_between, is_label_size, is_legal, is_name, is_place, legal_map, plain,
+    FARTHEST, is_between, is_label_size, is_legal, is_name, is_place, legal_map,
 )
 
 
@@ -60,7 +60,7 @@ class Zoom:
             raise BadValue(1)
         if not is_label_size(size):
             raise BadValue(2)
-        world = (nodes, lines, (*marks, (name, *plain(place), *plain(size))))
+        world = (nodes, lines, (*marks, (name, *place, *size)))
         # With a mark too many it is no map at all, and so no legal one.
         if not is_legal(world):
             raise NotLegal()

@@ -3,6 +3,7 @@
 import copy
 import time
 import unittest
+from functools import cache
 
 from cornerfade.areas import areas
 from cornerfade.errors import BadValue, NoStage
@@ -33,17 +34,22 @@ def functions(*but):
     ] + [(Zoom, ["world"])]
 
 
-def arguments(parameters, line):
-    """Fitting arguments for a function."""
+@cache
+def fitting(line):
+    """A fitting argument for each parameter, for the map that has this line."""
     world = LINES[line]
     points = len(dict((row[0], row[3]) for row in world[1])[line]) + 2
-    known = dict(
+    return dict(
         OTHERS, world=world, one=world, other=world, line=line, name=world[0][0][0],
         area=areas(world)[0], text=printed(world), value=(0,) * points,
     )
+
+
+def arguments(parameters, line):
+    """Fitting arguments for a function."""
     if parameters == ["value"]:
-        return [world]
-    return [known[name] for name in parameters]
+        return [LINES[line]]
+    return [fitting(line)[name] for name in parameters]
 
 
 def answer(call, args):
